@@ -1,0 +1,83 @@
+"""The names, arguments and kinds of what the document's interface lists, for the modules that are there."""
+
+import importlib
+import inspect
+import unittest
+
+FUNCTIONS = {
+    "needs": {
+        "settings": "ranges", "needed": "works ranges", "shown_by": "works ranges name",
+        "apart": "first second ranges", "enough": "works ranges names",
+    },
+    "patches": {
+        "staying": "old new", "between": "old new", "separate": "first second", "weavings": "first second",
+    },
+    "laying": {"measure": "label sizes"},
+    "focusing": {"buttons": "page"},
+    "rows": {
+        "matched": "key old new", "slips": "key old new", "losses": "key old new", "faithful": "key menu",
+        "least_pair": "key size places", "coarsest": "keys menu",
+    },
+    "things": {"least_parting": "key menu"},
+}
+
+# For each class the parameters of what it is made with, its methods with theirs, and its properties.
+CLASSES = {
+    ("forms", "Form"): ("parts", {
+        "__call__": "values", "__add__": None, "__eq__": None, "__str__": "", "constant": "value", "named": "name",
+        "summed": "first rest",
+    }, "parts names"),
+    ("pages", "Page"): ("root", {
+        "__getitem__": None, "__contains__": None, "__iter__": "", "__eq__": None, "parent": "mark",
+    }, "top shown"),
+    ("patches", "Patches"): ("page rows", {"__iter__": "", "__add__": None, "__neg__": ""}, "page end many"),
+    ("laying", "Laid"): ("page", {
+        "__getitem__": None, "__iter__": "", "hit": "x y", "take": "patches",
+    }, "page size"),
+    ("focusing", "Focus"): ("page rule", {"put": "mark", "step": "way", "turn": "page"}, "page at"),
+    ("rows", "Key"): ("form", {"__call__": "item at", "idents": "row", "__le__": None}, "parts"),
+    ("things", "Known"): ("key row", {
+        "__getitem__": None, "__setitem__": None, "__iter__": "", "show": "row",
+    }, ""),
+    ("things", "Things"): ("row", {"__getitem__": None, "__setitem__": None, "__iter__": "", "show": "row"}, ""),
+}
+
+
+def parameters(function):
+    return list(inspect.signature(function).parameters)
+
+
+class Interface(unittest.TestCase):
+    def test_functions(self):
+        for file, functions in FUNCTIONS.items():
+            module = importlib.import_module(f"drawnanew.{file}")
+            for name, told in functions.items():
+                with self.subTest(name):
+                    function = getattr(module, name)
+                    self.assertEqual(parameters(function), told.split())
+                    self.assertEqual(function.__module__, module.__name__)
+                    self.assertIs(inspect.isgeneratorfunction(function), name in ("settings", "weavings"))
+
+    def test_classes(self):
+        for (file, name), (made, methods, properties) in CLASSES.items():
+            with self.subTest(name):
+                told = getattr(importlib.import_module(f"drawnanew.{file}"), name)
+                self.assertEqual(told.__module__, f"drawnanew.{file}")
+                self.assertEqual(parameters(told), made.split())
+                for method, words in methods.items():
+                    self.assertIn(method, vars(told))
+                    if words is not None:
+                        found = [word for word in parameters(getattr(told, method)) if word != "self"]
+                        self.assertEqual(found, words.split())
+                for word in properties.split():
+                    self.assertIsInstance(vars(told)[word], property)
+
+    def test_made_off_the_class(self):
+        form = importlib.import_module("drawnanew.forms").Form
+        self.assertIsInstance(vars(form)["constant"], staticmethod)
+        self.assertIsInstance(vars(form)["named"], staticmethod)
+        self.assertIsInstance(vars(form)["summed"], classmethod)
+
+
+if __name__ == "__main__":
+    unittest.main()
