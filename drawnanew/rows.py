@@ -6,7 +6,7 @@ from drawnanew.forms import check_form, is_value, names_in, value_of
 MOST_ITEMS = 5
 
 
-def _is_row(thing):
+def is_row(thing):
     """Whether the thing is a tuple of at most 5 different values."""
     if not isinstance(thing, tuple) or len(thing) > MOST_ITEMS:
         return False
@@ -16,7 +16,7 @@ def _is_row(thing):
 def check_rows(rows):
     """Raise BadRow with the first one that is not a row of items."""
     for row in rows:
-        if not _is_row(row):
+        if not is_row(row):
             raise BadRow(row)
 
 

@@ -19,6 +19,12 @@ FUNCTIONS = {
         "least_pair": "key size places", "coarsest": "keys menu",
     },
     "things": {"least_parting": "key menu"},
+    "shapes": {
+        "text_shape": "form", "button_shape": "word", "row_shape": "parts", "col_shape": "parts",
+        "when_shape": "form first second", "put_shape": "component forms",
+        "each_shape": "form menu key component forms", "numbered": "shape", "levels": "shape",
+    },
+    "effects": {"sound": "log", "behind": "board entries", "parted": "form ranges names"},
 }
 
 # For each class the parameters of what it is made with, its methods with theirs, and its properties.
@@ -40,6 +46,20 @@ CLASSES = {
         "__getitem__": None, "__setitem__": None, "__iter__": "", "show": "row",
     }, ""),
     ("things", "Things"): ("row", {"__getitem__": None, "__setitem__": None, "__iter__": "", "show": "row"}, ""),
+    ("components", "Component"): (
+        "name shape takes hears cells asks gives effects deeds looks island",
+        {"size_of": "name", "changed": "parts"}, "names",
+    ),
+    ("houses", "House"): ("components root far room focus elder", {
+        "__getitem__": None, "__iter__": "", "changed": "parts", "replaced": "component",
+    }, "most"),
+    ("effects", "Effects"): ("", {"bring": "entries", "armed": "", "copy": ""}, ""),
+}
+
+# The parameters that are passed by keyword.
+BY_KEYWORD = {
+    ("components", "Component"): "takes hears cells asks gives effects deeds looks island",
+    ("houses", "House"): "far room focus elder",
 }
 
 
@@ -71,6 +91,12 @@ class Interface(unittest.TestCase):
                         self.assertEqual(found, words.split())
                 for word in properties.split():
                     self.assertIsInstance(vars(told)[word], property)
+
+    def test_by_keyword(self):
+        for (file, name), words in BY_KEYWORD.items():
+            told = getattr(importlib.import_module(f"drawnanew.{file}"), name)
+            found = [word for word, told in inspect.signature(told).parameters.items() if told.kind is told.KEYWORD_ONLY]
+            self.assertEqual(found, words.split())
 
     def test_made_off_the_class(self):
         form = importlib.import_module("drawnanew.forms").Form
