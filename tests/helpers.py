@@ -72,3 +72,32 @@ def random_page(dice, pool, least=1):
 
 def dice(seed):
     return random.Random(seed)
+
+
+def get(name):
+    return ("get", name)
+
+
+def fix(value):
+    return ("is", value)
+
+
+def plus(name, many=1):
+    """The form of the name's value and so many more."""
+    return ("sum", ("get", name), ("is", many))
+
+
+def deed(word, cell, form, on=False):
+    """A deed that sets one cell."""
+    return (word, ((cell, form),), on)
+
+
+def labels(page):
+    """The labels of a page, in page order."""
+    return [page[mark][1] for mark in page]
+
+
+def told(report):
+    """The lists of a report that are not empty, by name."""
+    names = ("made", "drawn", "dropped", "taken", "log", "asked")
+    return {name: getattr(report, name) for name in names if getattr(report, name)}

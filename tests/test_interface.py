@@ -25,7 +25,15 @@ FUNCTIONS = {
         "each_shape": "form menu key component forms", "numbered": "shape", "levels": "shape",
     },
     "effects": {"sound": "log", "behind": "board entries", "parted": "form ranges names"},
+    "asks": {"fence_of": "word", "late_row": "word far room questions", "weakest": "far room questions"},
+    "sessions": {"tried": "session events", "disagreement": "session anew", "play": "house events"},
+    "rounds": {"drawing_orders": "rounds"},
+    "schedules": {"all_schedules": "names", "spoiling": "schedule needs"},
 }
+
+GENERATORS = ("settings", "weavings", "drawing_orders", "all_schedules")
+
+LETS = "entry who question ticket"
 
 # For each class the parameters of what it is made with, its methods with theirs, and its properties.
 CLASSES = {
@@ -54,6 +62,29 @@ CLASSES = {
         "__getitem__": None, "__iter__": "", "changed": "parts", "replaced": "component",
     }, "most"),
     ("effects", "Effects"): ("", {"bring": "entries", "armed": "", "copy": ""}, ""),
+    ("asks", "Entry"): ("owner word who ticket question answer", {}, ""),
+    ("asks", "Line"): ("far room", {
+        "send": "owner word who question", "take": "number", "entries": "", "turn": "", "copy": "",
+    }, "edition"),
+    ("asks", "Fence"): ("", {"lets": LETS, "__le__": None}, ""),
+    ("asks", "Own"): ("", {"lets": LETS, "__le__": None}, ""),
+    ("asks", "Same"): ("", {"lets": LETS, "__le__": None}, ""),
+    ("asks", "Both"): ("", {"lets": LETS, "__le__": None}, ""),
+    ("asks", "Last"): ("", {"lets": LETS, "__le__": None}, ""),
+    ("anew", "Anew"): ("house", {
+        "do": "event", "look": "frozen", "instances": "", "value": "place name", "likeness": "", "copy": "",
+    }, "page"),
+    ("sessions", "Session"): ("house", {
+        "do": "event", "look": "", "laid": "", "instances": "", "value": "place name", "armed": "", "questions": "",
+        "frozen": "", "queued": "", "events": "kinds", "likeness": "", "copy": "", "trying": "",
+    }, "page focused at_rest"),
+    ("sessions", "Trying"): ("session", {"__enter__": "", "__exit__": None}, ""),
+    ("rounds", "Rounds"): ("house", {
+        "instances": "", "set_cell": "place cell value", "due": "", "draw": "place", "settle": "", "copy": "",
+    }, "shown"),
+    ("schedules", "Schedule"): ("names sets", {
+        "__contains__": None, "__le__": None, "__eq__": None, "__iter__": "", "missed": "needs", "least": "names needs",
+    }, ""),
 }
 
 # The parameters that are passed by keyword.
@@ -76,7 +107,7 @@ class Interface(unittest.TestCase):
                     function = getattr(module, name)
                     self.assertEqual(parameters(function), told.split())
                     self.assertEqual(function.__module__, module.__name__)
-                    self.assertIs(inspect.isgeneratorfunction(function), name in ("settings", "weavings"))
+                    self.assertIs(inspect.isgeneratorfunction(function), name in GENERATORS)
 
     def test_classes(self):
         for (file, name), (made, methods, properties) in CLASSES.items():
@@ -103,6 +134,8 @@ class Interface(unittest.TestCase):
         self.assertIsInstance(vars(form)["constant"], staticmethod)
         self.assertIsInstance(vars(form)["named"], staticmethod)
         self.assertIsInstance(vars(form)["summed"], classmethod)
+        schedule = importlib.import_module("drawnanew.schedules").Schedule
+        self.assertIsInstance(vars(schedule)["least"], staticmethod)
 
 
 if __name__ == "__main__":
