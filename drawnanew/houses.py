@@ -73,16 +73,16 @@ def _check_handing(components):
     """Raise Unknown or BadHouse unless all instances are those of a component and get as many values as it takes."""
     takes = {component.name: len(component.takes) for component in components}
     rows = [row for component in components for row in handing(component.shape)]
-    for _, name, _, _ in rows:
+    for name, _, _ in rows:
         if name not in takes:
             raise Unknown(name)
-    if any([len(forms) != takes[name] for _, name, forms, _ in rows]):
+    if any([len(forms) != takes[name] for name, forms, _ in rows]):
         raise BadHouse("forms")
 
 
 def _within(components):
     """For each component the names of those that can come to stand within it, as the keys of a dict."""
-    inner = {component.name: {row[1]: True for row in handing(component.shape)} for component in components}
+    inner = {component.name: {row[0]: True for row in handing(component.shape)} for component in components}
     # Each turn reaches one level further at least, so there need not be more turns than components.
     for _ in components:
         inner = {name: {**told, **_all_of(inner, told)} for name, told in inner.items()}
@@ -113,7 +113,7 @@ def _most_of(components, root):
     counts = {name: 1 for name in rows}
     # No component stands within itself, so all counts hold when each component has had its turn at each level.
     for _ in components:
-        counts = {name: 1 + sum([many * counts[told] for _, told, _, many in rows[name]]) for name in rows}
+        counts = {name: 1 + sum([many * counts[told] for told, _, many in rows[name]]) for name in rows}
     return counts[root]
 
 

@@ -66,13 +66,13 @@ def levels(shape):
 
 
 def handing(shape):
-    """The shapes, by number, that draw instances of a component, each as (word, component, forms, longest row)."""
+    """The shapes, by number, that draw instances of a component, each as (component, forms, most instances)."""
     found = []
     for part in numbered(shape):
         if part[0] == "put":
-            found.append(("put", part[1], part[2], 1))
+            found.append((part[1], part[2], 1))
         if part[0] == "each":
-            found.append(("each", part[4], part[5], max([len(row) for row in part[2]])))
+            found.append((part[4], part[5], max([len(row) for row in part[2]])))
     return found
 
 

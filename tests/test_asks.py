@@ -123,8 +123,9 @@ class Fences(unittest.TestCase):
                 told = all([LETS[second](*state) for state in STATES if LETS[first](*state)])
                 with self.subTest(first=first, second=second):
                     self.assertIs(fence_of(first) <= fence_of(second), told)
-        with self.assertRaises(TypeError):
-            Fence() <= 1
+            for other in (1, None, first):
+                with self.assertRaises(TypeError):
+                    fence_of(first) <= other
 
     def test_bad_fence(self):
         for word in ("", "Any", "most", None, 0, [], ("any",), Fence()):

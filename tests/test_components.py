@@ -90,7 +90,7 @@ WRONG = {
     "shape": [
         None, (), [], "col", col_shape, ("col",), ("col", [text_shape(ONE)]), ("col", (), ()), text_shape(ONE),
         button_shape("go"), when_shape(ONE, col_shape(), col_shape()), put_shape("leaf"), ("page", ()), (1, ()),
-        each_shape(ONE, ((1,),), ITEM, "leaf"), ["col", ()], (("col",), ()),
+        each_shape(ONE, ((1,),), ITEM, "leaf"), ["col", ()], (("col",), ()), ([], ()), ({}, ()),
     ],
 }
 
@@ -208,6 +208,15 @@ class Parts(unittest.TestCase):
         )
         self.assertEqual(len(component.names), 3 + 2 + 12 + 2)
         self.assertEqual(component.looks, ("i", "v", "h", "abcdefgh", "u"))
+
+    def test_a_deed_sets_at_most_5_cells(self):
+        cells = tuple([(f"c{chr(97 + k)}", 4, 3) for k in range(6)])
+        for many in range(1, 6):
+            sets = tuple([(name, ONE) for name, _, _ in cells[:many]])
+            Component("some", col_shape(), cells=cells, deeds=(("go", sets, True),))
+        with self.assertRaises(BadComponent) as caught:
+            Component("some", col_shape(), cells=cells, deeds=(("go", sets + (("cf", ONE),), True),))
+        self.assertEqual(caught.exception.part, "deeds")
 
     def test_number_and_levels_of_shapes(self):
         texts = [text_shape(ONE)] * 15

@@ -50,6 +50,13 @@ class Marks(unittest.TestCase):
         for machine in (session, anew):
             self.assertEqual([place for place, _ in machine.instances()], [(), ((1, 5),), ((1, 8),), ((1, 6),)])
 
+    def test_the_new_machine_knows_items_by_themselves_everywhere(self):
+        inner = each_shape(fix(0), ((5, 8),), AT, "leaf")
+        root = leaf("root", when_shape(fix(1), row_shape(inner), inner), when_shape(fix(0), inner, inner))
+        session, anew = both(House([root, leaf()], "root"))
+        self.assertEqual(list(session.page), ["0", "2", "3.0.0/0", "3.1.0/0", "7.0.0/0", "7.1.0/0"])
+        self.assertEqual(list(anew.page), ["0", "2", "3.5.0/0", "3.8.0/0", "7.5.0/0", "7.8.0/0"])
+
     def test_an_empty_row_of_items(self):
         root = leaf("root", each_shape(fix(1), ((5,), ()), ITEM, "leaf"))
         for machine in both(House([root, leaf()], "root")):
@@ -120,7 +127,7 @@ class Given(unittest.TestCase):
         root = leaf("root", put_shape("leaf"), cells=(("c", 4, 3),), gives=(("g", 2, fix(1)),))
         low = leaf("leaf", cells=(("d", 2, 0),))
         for machine in both(House([root, low], "root")):
-            for place in (((2,),), ((1,), (1,)), ((1, 0),), None, [], [(1,)], "", ((True,),), (1,), ([1],), ((1, 1, 1),)):
+            for place in (((2,),), ((1,), (1,)), ((9,), (1,)), ((1, 0),), None, [], [(1,)], "", ((True,),), (1,), ([1],), ((1, 1, 1),)):
                 with self.subTest(place=place), self.assertRaises(NoInstance) as caught:
                     machine.value(place, "none")
                 self.assertEqual(caught.exception.place, place)

@@ -151,7 +151,20 @@ class Drawn(unittest.TestCase):
         self.assertEqual(told(report), {"drawn": [()], "dropped": [((2,),)]})
         self.assertEqual((session.frozen(), session.queued(), session.at_rest), ([], [], True))
         report = session.do(("press", (), "turn"))
-        self.assertEqual((report.made, session.frozen(), session.value((), "on")), ([((2,),)], [], 1))
+        self.assertEqual(told(report), {"drawn": [()], "made": [((2,),)]})
+        self.assertEqual((session.frozen(), session.value((), "on")), ([], 1))
+
+    def test_queued_presses_of_a_dropped_island_are_not_done_at_its_place(self):
+        isle = Component("isle", col_shape(button_shape("go"), text_shape(get("c"))), cells=(("c", 4, 0),),
+                         deeds=(deed("go", "c", plus("c")),), island=("kept", True))
+        root = Component("root", col_shape(each_shape(get("row"), ((1,), (2, 1)), ("sum", ITEM, get("at")), "isle"),
+                                           button_shape("next")),
+                         cells=(("row", 2, 0),), deeds=(deed("next", "row", plus("row")),))
+        session = Session(House([root, isle], "root"))
+        session.do(("press", ((1, 1),), "go"))
+        report = session.do(("press", (), "next"))
+        self.assertEqual(told(report), {"drawn": [()], "dropped": [((1, 1),)], "made": [((1, 2),), ((1, 1),)]})
+        self.assertEqual((session.value(((1, 1),), "c"), session.queued()), (0, []))
 
 
 class Pressed(unittest.TestCase):
@@ -172,6 +185,13 @@ class Pressed(unittest.TestCase):
         self.assertEqual((self.values(session), session.frozen()), ([1, 1, 1], []))
         report = session.do(("press", ISLE, "tap"))
         self.assertEqual((report.taken, self.values(session)), ([], [1, 2, 2]))
+
+    def test_takes_also_where_the_press_changes_nothing(self):
+        isle = Component("isle", col_shape(button_shape("go")), island=("takes", True), effects=(("e", fix(1), ()),))
+        session = Session(House([Component("root", col_shape(put_shape("isle"))), isle], "root"))
+        report = session.do(("press", ((1,),), "go"))
+        self.assertEqual(told(report), {"taken": [((1,),)], "log": [("arm", ((1,),), "e", 1)]})
+        self.assertEqual(session.frozen(), [])
 
     def test_kept_until_it_is_taken_over(self):
         session = Session(isle_house(("kept", True)))

@@ -197,6 +197,14 @@ class Aside(unittest.TestCase):
             rounds.draw(())
             self.assertEqual(texts(rounds.shown), "30" if waiting else "00")
 
+    def test_also_behind_settle(self):
+        rounds = Rounds(self.gone_house())
+        rounds.set_cell(((2,),), "c", 3)
+        for on in (0, 1):
+            rounds.set_cell((), "on", on)
+            rounds.settle()
+        self.assertEqual(texts(rounds.shown), "00")
+
     def test_also_when_a_cell_is_set_back(self):
         rounds = Rounds(self.gone_house())
         rounds.set_cell(((2,),), "c", 3)
@@ -234,6 +242,7 @@ class Copies(unittest.TestCase):
         self.assertEqual((rounds.due(), texts(rounds.shown)), ([()], "0"))
         rounds.draw(())
         self.assertEqual((twin.due(), texts(twin.shown)), ([LOW], "1"))
+        self.assertEqual(texts(twin.copy().shown), "1")
 
     def test_what_is_aside_is_copied(self):
         rounds = Rounds(Aside().gone_house())

@@ -256,6 +256,19 @@ class Likeness(unittest.TestCase):
             self.assertNotEqual(likes[0], likes[1])
             self.assertEqual(likes[0], likes[2])
 
+    def test_whether_an_open_question_is_the_last_one(self):
+        root = Component("root", col_shape(button_shape("turn")), cells=(("n", 2, 0),), asks=(("a", get("n"), "same"),),
+                         deeds=(deed("turn", "n", plus("n")),))
+        house = House([root], "root", room=3)
+        likes = []
+        for number in (1, 0):
+            session = Session(house)
+            for event in (("press", (), "turn"), ("press", (), "turn"), ("land", 1), ("land", number)):
+                session.do(event)
+            self.assertEqual((session.value((), "a"), session.questions()), (1, [((), "a", 0)]))
+            likes.append(session.likeness())
+        self.assertNotEqual(likes[0], likes[1])
+
     def test_the_page_and_what_an_instance_was_drawn_with(self):
         child = Component("leaf", col_shape(text_shape(get("t"))), takes=(("t", 2),), looks=())
         root = Component("root", col_shape(put_shape("leaf", get("n")), button_shape("more"), button_shape("turn"),
@@ -330,6 +343,17 @@ class Copies(unittest.TestCase):
                 for other in EVENTS + [("take", ISLE)]:
                     twin.do(other)
                 self.assertEqual((machine.likeness(), machine.look()), before)
+
+    def test_each_new_instance_of_a_copy_is_another_who(self):
+        child = Component("leaf", col_shape(), asks=(("a", fix(0), "own"),))
+        root = Component("root", col_shape(when_shape(get("c"), col_shape(), put_shape("leaf")), button_shape("turn")),
+                         cells=(("c", 2, 0),), deeds=(deed("turn", "c", plus("c")),))
+        twin = Session(House([root, child], "root", room=3)).copy()
+        for _ in range(4):
+            twin.do(("press", (), "turn"))
+        self.assertEqual(twin.questions(), [(None, "a", 0), (None, "a", 0), (((3,),), "a", 0)])
+        twin.do(("land", 0))
+        self.assertEqual(twin.value(((3,),), "a"), 0)
 
     def test_a_copy_does_what_the_other_does(self):
         session = session_behind(*EVENTS)
