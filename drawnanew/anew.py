@@ -1,18 +1,14 @@
 """The new machine, which goes by no marks and draws the whole page anew after each event."""
 
 from drawnanew.machines import Machine
+from drawnanew.shapes import inner_shapes, with_inner
 
 
 def _unmarked_shape(shape):
     """The shape, in which the key of each each is the item."""
-    word = shape[0]
-    if word in ("row", "col"):
-        return (word, tuple([_unmarked_shape(part) for part in shape[1]]))
-    if word == "when":
-        return (word, shape[1], _unmarked_shape(shape[2]), _unmarked_shape(shape[3]))
-    if word == "each":
+    if shape[0] == "each":
         return shape[:3] + (("get", "item"),) + shape[4:]
-    return shape
+    return with_inner(shape, tuple([_unmarked_shape(part) for part in inner_shapes(shape)]))
 
 
 def _unmarked_component(component):

@@ -169,7 +169,7 @@ def _right_deeds(component):
 
 
 def _right_looks(component):
-    return component.looks is None or _are_among(component.looks, _firsts(component.takes, component.hears))
+    return component.looks is None or _are_among(component.looks, component.given_names)
 
 
 def _right_island(component):
@@ -222,7 +222,7 @@ class Component:
             if not is_right(self):
                 raise BadComponent(part)
         if looks is None:
-            self.looks = tuple(_firsts(takes, hears))
+            self.looks = self.given_names
         self.plan = plan_of(shape)
         self._sizes = {row[0]: row[1] for part in (takes, hears, cells) for row in part}
         self._sizes.update({word: MOST_SIZE for word, _, _ in asks})
@@ -232,6 +232,11 @@ class Component:
     def names(self):
         """The names of takes, hears, cells and asks."""
         return self._names
+
+    @property
+    def given_names(self):
+        """The names of takes, then of hears."""
+        return tuple(_firsts(self.takes, self.hears))
 
     def size_of(self, name):
         """The size of a name; that of an ask is 4."""

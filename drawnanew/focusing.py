@@ -38,6 +38,7 @@ class Focus:
             raise BadRule(rule)
         self.rule = rule
         self._page = page
+        self._marks = buttons(page)
         self._at = None
 
     @property
@@ -52,7 +53,7 @@ class Focus:
 
     @at.setter
     def at(self, mark):
-        if mark is not None and mark not in buttons(self._page):
+        if mark is not None and mark not in self._marks:
             raise NoNode(mark)
         self._at = mark
 
@@ -63,7 +64,7 @@ class Focus:
 
     def step(self, way):
         """Lead the focus to the next button, or back to the one ahead, and return it."""
-        marks = buttons(self._page)
+        marks = self._marks
         if not marks:
             return None
         if self._at is None:
@@ -75,6 +76,9 @@ class Focus:
 
     def turn(self, page):
         """Go on to a new page and return the focus there."""
-        self._at = _settled(self._at, self.rule, buttons(self._page), buttons(page))
+        if page != self._page:
+            marks = buttons(page)
+            self._at = _settled(self._at, self.rule, self._marks, marks)
+            self._marks = marks
         self._page = page
         return self._at

@@ -96,6 +96,7 @@ class Instance:
         self.effects = ()
         self.nodes = ()
         self.buttons = {}
+        self.inner = ()
         self.children = ()
 
     def copy(self):
@@ -110,6 +111,7 @@ class Instance:
         twin.effects = self.effects
         twin.nodes = self.nodes
         twin.buttons = self.buttons
+        twin.inner = self.inner
         twin.children = self.children
         return twin
 
@@ -119,8 +121,15 @@ class Instance:
 
     def work_out(self, given):
         """Be drawn with the values that it is given; the children that it draws, in order."""
-        component = self.component
         values = {**given, **self.state}
+        # The same values would lead to the same again.
+        if values != self.drawn:
+            self._draw_with(values)
+        return self.inner
+
+    def _draw_with(self, values):
+        """Work out what these values lead to."""
+        component = self.component
         self.drawn = values
         self.gave = {name: value_of(form, values) % size for name, size, form in component.gives}
         self.effects = tuple([
@@ -129,7 +138,7 @@ class Instance:
         ])
         self.nodes = drawn_parts(component.plan, values, _mark_ahead(self.path))[0]
         self.buttons = button_words(self.nodes)
-        return children_in(self.nodes)
+        self.inner = tuple(children_in(self.nodes))
 
     def has_button(self, word):
         """Whether it drew a button with this word."""

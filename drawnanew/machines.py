@@ -302,8 +302,7 @@ class Machine:
 
     def look(self):
         """The page, the number of the button with the focus, the armed effects and the open questions."""
-        marks = buttons(self.sheet)
-        at = None if self.focus.at is None else marks.index(self.focus.at)
+        at = None if self.focus.at is None else buttons(self.sheet).index(self.focus.at)
         return (self.sheet.shown, at, tuple(self.armed()), tuple(self.questions()))
 
     def questions_told(self):

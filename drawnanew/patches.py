@@ -268,13 +268,13 @@ def _next_turns(turns):
 
 def _woven(first, second, turns):
     """The weaving with these turns."""
-    woven = []
+    mixed = []
     taken = 0
     for at, turn in enumerate(turns):
-        woven.append(first[taken] if turn else second[at - taken])
+        mixed.append(first[taken] if turn else second[at - taken])
         if turn:
             taken += 1
-    return woven
+    return mixed
 
 
 def weavings(first, second):

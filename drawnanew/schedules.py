@@ -1,5 +1,6 @@
 """Schedules: for each set of changed names, whether an instance is drawn again."""
 
+from drawnanew.choosing import all_sets
 from drawnanew.errors import BadNames
 from drawnanew.forms import is_name
 
@@ -21,17 +22,7 @@ def _check_names(names):
 
 def _all_sets(names):
     """All nonempty sets of the names, by their number of names, then by the places of these."""
-    sets = []
-    longest = [()]
-    for _ in names:
-        longest = [told + (name,) for told in longest for name in _behind(told, names)]
-        sets.extend(longest)
-    return sets
-
-
-def _behind(told, names):
-    """The names that stand behind all those of the set."""
-    return names[names.index(told[-1]) + 1:] if told else names
+    return all_sets(names)[1:]
 
 
 def _in_order(names, changed):

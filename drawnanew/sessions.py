@@ -1,5 +1,6 @@
 """The kept machine, which goes by the marks of its house."""
 
+from drawnanew.anew import new_look
 from drawnanew.focusing import buttons
 from drawnanew.laying import Laid
 from drawnanew.machines import Machine
@@ -199,12 +200,16 @@ def first_parting(first, second):
     return None
 
 
+def machines_part(kept, new):
+    """None if a kept machine and a new one agree, otherwise the word of the first part in which their looks differ."""
+    if kept.queue:
+        return None
+    return first_parting(kept.look(), new_look(new, frozen_places(kept)))
+
+
 def disagreement(session, anew):
     """None if both agree, otherwise the word of the first part in which their looks differ."""
-    if not session.at_rest:
-        return None
-    frozen = session.frozen()
-    return first_parting(session.look(), anew.look(*frozen))
+    return machines_part(session._machine, anew._machine)
 
 
 def play(house, events):

@@ -47,6 +47,15 @@ def inner_shapes(shape):
     return ()
 
 
+def with_inner(shape, parts):
+    """The shape with these parts in the place of the shapes that are its parts."""
+    if shape[0] in ("row", "col"):
+        return (shape[0], parts)
+    if shape[0] == "when":
+        return shape[:2] + parts
+    return shape
+
+
 def numbered(shape):
     """The tuple of all shapes, by number."""
     shapes = [shape]

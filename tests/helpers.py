@@ -101,3 +101,17 @@ def told(report):
     """The lists of a report that are not empty, by name."""
     names = ("made", "drawn", "dropped", "taken", "log", "asked")
     return {name: getattr(report, name) for name in names if getattr(report, name)}
+
+
+PARTS = ("name", "takes", "hears", "cells", "asks", "gives", "effects", "deeds", "looks", "island", "shape")
+
+
+def parts_of(component):
+    """All parts of a component, by name."""
+    return {part: getattr(component, part) for part in PARTS}
+
+
+def house_told(house):
+    """All parts of a house, with those of its components."""
+    told = {part: getattr(house, part) for part in ("root", "far", "room", "focus", "elder")}
+    return {**told, "components": [parts_of(component) for component in house]}

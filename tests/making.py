@@ -105,3 +105,26 @@ def random_house(dice, full, islands=False, asking=True):
                 return house
         except ScreenError:
             continue
+
+
+def small(house):
+    """The house with sizes of at most 2, so that it has fewer stands."""
+    components = [
+        component.changed(
+            takes=tuple([(name, min(size, 2)) for name, size in component.takes]),
+            hears=tuple([(name, min(size, 2), worth % 2 if size > 1 else 0) for name, size, worth in component.hears]),
+            cells=tuple([(name, min(size, 2), worth % 2 if size > 1 else 0) for name, size, worth in component.cells]),
+        )
+        for component in house
+    ]
+    return house.changed(components=components, elder=tuple([(cell, worth % 2 if worth else 0) for cell, worth in [
+        row for row in house.elder if house[house.root].size_of(row[0]) > 1]]))
+
+
+def is_plain(house, most=40):
+    """Whether the cells and answers of the components have few settings, so that the house has few stands."""
+    many = 1
+    for component in house:
+        for name in [row[0] for row in component.cells + component.asks]:
+            many *= component.size_of(name)
+    return many <= most

@@ -29,13 +29,30 @@ FUNCTIONS = {
     "sessions": {"tried": "session events", "disagreement": "session anew", "play": "house events"},
     "rounds": {"drawing_orders": "rounds"},
     "schedules": {"all_schedules": "names", "spoiling": "schedule needs"},
+    "islands": {
+        "woven": "events places", "end_look": "house events", "first_unlike": "house events",
+        "least_lots": "house events",
+    },
+    "marks": {"all_marks": "house", "weak_marks": "house", "mended": "house marks"},
+    "judging": {
+        "judge": "house kinds", "wrong_at": "house row", "blame": "house row", "assure": "house kinds",
+    },
+    "mending": {"mends": "house kinds", "alike": "first second kinds"},
+    "surroundings": {"stub": "component child", "widest": "house name"},
+    "papers": {
+        "paper": "house name", "papers": "house", "vouched": "house", "output": "component setting",
+        "needed_looks": "component", "thinned": "house",
+    },
+    "writing": {"write_place": "place", "write_house": "house"},
+    "reading": {"read_place": "text", "read_house": "lines"},
 }
 
-GENERATORS = ("settings", "weavings", "drawing_orders", "all_schedules")
+GENERATORS = ("settings", "weavings", "drawing_orders", "all_schedules", "woven")
 
 LETS = "entry who question ticket"
 
-# For each class the parameters of what it is made with, its methods with theirs, and its properties.
+# For each class the parameters of what it is made with (None where none are told), its methods with theirs, and its
+# properties.
 CLASSES = {
     ("forms", "Form"): ("parts", {
         "__call__": "values", "__add__": None, "__eq__": None, "__str__": "", "constant": "value", "named": "name",
@@ -85,6 +102,9 @@ CLASSES = {
     ("schedules", "Schedule"): ("names sets", {
         "__contains__": None, "__le__": None, "__eq__": None, "__iter__": "", "missed": "needs", "least": "names needs",
     }, ""),
+    ("judging", "Verdict"): (None, {}, ""),
+    ("papers", "Paper"): (None, {"__bool__": ""}, ""),
+    ("desk", "Desk"): ("house", {"say": "line", "listing": "lines"}, ""),
 }
 
 # The parameters that are passed by keyword.
@@ -114,7 +134,8 @@ class Interface(unittest.TestCase):
             with self.subTest(name):
                 told = getattr(importlib.import_module(f"drawnanew.{file}"), name)
                 self.assertEqual(told.__module__, f"drawnanew.{file}")
-                self.assertEqual(parameters(told), made.split())
+                if made is not None:
+                    self.assertEqual(parameters(told), made.split())
                 for method, words in methods.items():
                     self.assertIn(method, vars(told))
                     if words is not None:
@@ -122,6 +143,15 @@ class Interface(unittest.TestCase):
                         self.assertEqual(found, words.split())
                 for word in properties.split():
                     self.assertIsInstance(vars(told)[word], property)
+
+    def test_all_kinds_of_events_are_meant_where_none_are_told(self):
+        kinds = importlib.import_module("drawnanew.sessions").KINDS
+        for file, name in [("judging", "judge"), ("judging", "assure"), ("mending", "mends"), ("mending", "alike")]:
+            function = getattr(importlib.import_module(f"drawnanew.{file}"), name)
+            self.assertEqual(inspect.signature(function).parameters["kinds"].default, kinds)
+
+    def test_a_listing_is_a_generator(self):
+        self.assertTrue(inspect.isgeneratorfunction(importlib.import_module("drawnanew.desk").Desk.listing))
 
     def test_by_keyword(self):
         for (file, name), words in BY_KEYWORD.items():
