@@ -101,10 +101,9 @@ class Desk:
 
     def _value(self, words):
         """The answer to a line that asks for a value, behind its first word."""
-        components = {place: self._house[name] for place, name in self._session.instances()}
+        components = {told: self._house[kind] for told, kind in self._session.instances()}
         place = read_place(words.read(lambda word: read_place(word) in components))
-        names = components[place].names
-        name = words.read_one(names)
+        name = words.read_one(components[place].names)
         words.finish()
         return [str(self._session.value(place, name))]
 

@@ -232,7 +232,8 @@ def _read_component(text):
     parts["looks"] = _read_looks(text)
     parts["island"] = _read_island(text)
     parts["shape"] = _read_shape(text)
-    if text.first() not in ("component", None):
+    # A line that cannot come next is refused ahead of a component that is not as described.
+    if text.first() is not None and text.first() != "component":
         text.line_of(("component",))
     try:
         return Component(**parts)

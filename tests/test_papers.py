@@ -73,6 +73,16 @@ class Papers(unittest.TestCase):
         row = paper(same, "asker").verdict.row
         self.assertEqual(sorted([event[0] for event in row]), ["land", "press", "press"])
 
+    def test_what_only_a_later_edition_shows(self):
+        late = ("same", get("q"), fix(3))
+        asker = Component(
+            "asker", col_shape(text_shape(late)), takes=(("t", 2),), asks=(("q", get("t"), "last"),),
+            effects=(("e", late, ()),))
+        root = Component("root", col_shape(put_shape("asker", fix(0))))
+        house = House([root, asker], "root", far=((1, 1, 1, 1), (3, 3, 3, 3)))
+        self.assertEqual(sorted([event[0] for event in paper(house, "asker").verdict.row]), ["far", "land", "press", "press"])
+        self.assertTrue(paper(house.changed(far=((1, 1, 1, 1), (2, 2, 2, 2))), "asker"))
+
     def test_an_island_is_left_aside(self):
         isle = Component("isle", col_shape(text_shape(get("t"))), takes=(("t", 2),), island=("lost", False))
         house = House([Component("root", col_shape(put_shape("isle", fix(0)))), isle], "root")

@@ -91,6 +91,10 @@ class Stub(unittest.TestCase):
                 self.assertEqual(made.deeds[0][0], word)
                 self.assertEqual(made.shape[1][1:], pressed(word, *deeds))
 
+    def test_names_of_components_are_no_words(self):
+        component = Component("root", col_shape(put_shape("a"), text_shape(get("a"))), cells=(("a", 2, 0),))
+        self.assertEqual(stub(component, Component("a", col_shape())).deeds, (up("a", "a"),))
+
     def test_past_z(self):
         letters = "abcdefghijklmnopqrstuvwxyz"
         shape = col_shape(*[button_shape(word) for word in letters[12:]])
