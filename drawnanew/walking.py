@@ -6,7 +6,7 @@ from drawnanew.sessions import kept_likeness, listed_events
 MOST_STANDS = 600
 
 
-def _behind(machine, event):
+def _stepped(machine, event):
     """A new machine that stands as this one does behind the event."""
     twin = machine.copy()
     twin.do(event)
@@ -30,7 +30,7 @@ def walk(first, second, kinds, parting, likeness):
         kept, other, row = pairs[len(stands)]
         numbers = []
         for event in listed_events(kept, kinds):
-            one, two = _behind(kept, event), _behind(other, event)
+            one, two = _stepped(kept, event), _stepped(other, event)
             word = parting(one, two)
             if word is not None:
                 return (row + [event], word, [])
